@@ -1,0 +1,1 @@
+"""Latticeworks: whole steps in many directions, their forms, nearest points and plans, with papers."""
