@@ -1,7 +1,7 @@
 """The numbers that divide one another, which rows come to by turns from both sides."""
 
 from latticeworks.kinds import is_listed, is_listed_of, is_number
-from latticeworks.rows import are_back, as_rows, is_rows, product, turned_over, unit_rows
+from latticeworks.rows import as_rows, is_turn_of, product, turned_over, unit_rows
 from latticeworks.standing import standing
 
 
@@ -98,10 +98,6 @@ def diagonal(numbers, many, wide):
     for k, number in enumerate(numbers):
         rows[k][k] = number
     return as_rows(rows)
-
-
-def is_turn_of(turn, back, many):
-    return is_rows(turn, many, many) and are_back(turn, back)
 
 
 def shows_dividing(rows, told):

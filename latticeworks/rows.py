@@ -67,6 +67,18 @@ def are_back(turn, back):
     return many == 0 or product(turn, back) == unit_rows(many)
 
 
+def is_turn_of(turn, back, many):
+    return is_rows(turn, many, many) and are_back(turn, back)
+
+
+# Whether made, of any kind, are the rows that come of rows by turn, of any kind as well, with its back.
+def are_turned(rows, made, turn, back):
+    many = len(rows)
+    if not is_rows(made, many, len(rows[0])) or not is_turn_of(turn, back, many):
+        return False
+    return as_rows(made) == product(turn, rows)
+
+
 # The first row from place on that isn't nought there; None where all are.
 def row_to_divide_by(rows, place):
     for k in range(place, len(rows)):

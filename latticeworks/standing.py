@@ -1,7 +1,7 @@
 """The standing form of rows, one for all rows that have the same sums, and the rests by it."""
 
 from latticeworks.kinds import is_listed_of
-from latticeworks.rows import added, are_back, as_rows, is_rows, nought_rows, product, turned_over, unit_rows
+from latticeworks.rows import added, as_rows, is_rows, is_turn_of, nought_rows, product, turned_over, unit_rows
 
 
 # The place of the first number that isn't nought; None where all are.
@@ -111,7 +111,7 @@ def shows_standing(rows, told):
     turn = told[1]
     if not is_rows(form, None, wide) or not is_standing(form):
         return False
-    if not is_rows(turn, many, many) or not are_back(turn, told[2]):
+    if not is_turn_of(turn, told[2], many):
         return False
     return product(turn, rows) == as_rows(form) + nought_rows(many - len(form), wide)
 

@@ -1,7 +1,11 @@
 """What several tests need: rows to try, ways to ask, and things that are not as told."""
 
 from copy import deepcopy
+from fractions import Fraction
+from math import ceil, floor, isqrt, lcm
 from random import Random
+
+from latticeworks.errors import LatticeError, NoSteps, TooMany
 
 TWELVE_FIGURES = 10 ** 12 - 1
 
@@ -205,6 +209,23 @@ def wrong_numbers(told):
                     yield put_at(told, path, new)
 
 
+def bent(chance, thing):
+    """A thing of tuples with another thing at some place of it, drawn by chance."""
+    path = chance.choice(list(paths(thing)))
+    here = at(thing, path)
+    swaps = [None, True, False, 0, 1, -1, "", "1", (), (here,), (here, here), strange_thing(chance, 3)]
+    if isinstance(here, tuple) and here:
+        k = chance.randrange(len(here))
+        other = chance.randrange(len(here))
+        swapped = list(here)
+        swapped[k], swapped[other] = swapped[other], swapped[k]
+        swaps = swaps[:2] + [here[:k] + here[k + 1:], here[:k] + here[k:k + 1] + here[k:], tuple(swapped), here[::-1],
+                             here + (chance.choice(swaps),), here[:k] + (chance.choice(swaps),) + here[k + 1:]]
+    elif type(here) is int:
+        swaps = swaps[:4] + [here + 1, here - 1, here + 1, here - 1, -here, bool(here), str(here), here + 10 ** 30]
+    return put_at(thing, path, tupled(chance.choice(swaps)))
+
+
 def check_refuses_strange(test, checker, seed):
     """A checker, with only `told` left to hand in, tells False of all that's strange, and never fails."""
     chance = source(seed)
@@ -226,3 +247,260 @@ def check_told(test, checker, told, others=()):
         if spoilt not in others:
             test.assertIs(checker(spoilt), False, repr(spoilt))
             test.assertIs(checker(listed(spoilt)), False, repr(spoilt))
+
+
+def refused(test, error, function, *things):
+    """Refused with just this error, which stands straight under LatticeError."""
+    for form in (tupled, listed, mixed):
+        handed = [form(thing) for thing in things]
+        kept = deepcopy(handed)
+        with test.assertRaises(LatticeError) as caught:
+            function(*handed)
+        test.assertIs(type(caught.exception), error)
+        test.assertTrue(same_kinds(handed, kept), "what was handed in is changed")
+    test.assertEqual(error.__bases__, (LatticeError,))
+    test.assertNotEqual(NoSteps, TooMany)
+
+
+# From here on: steps, points and trees by the words of the document, with Python's own fractions.
+
+
+def fraction(part):
+    return Fraction(part[0], part[1])
+
+
+def part_of(number):
+    number = Fraction(number)
+    return (number.numerator, number.denominator)
+
+
+def point_of(chance, wide, bound, bottom):
+    return tuple(part_of(Fraction(chance.randint(-bound, bound), chance.randint(1, bottom))) for k in range(wide))
+
+
+def school_dot(one, other):
+    return sum(a * b for a, b in zip(one, other))
+
+
+def school_shares(steps):
+    """Squares and shares of the own parts; None where the rows are no steps."""
+    owns, squares, shares = [], [], []
+    for step in steps:
+        line = [school_dot(step, own) / square for own, square in zip(owns, squares)]
+        own = [Fraction(number) for number in step]
+        for share, ahead in zip(line, owns):
+            own = [a - share * b for a, b in zip(own, ahead)]
+        square = school_dot(own, own)
+        if square == 0:
+            return None
+        owns.append(own)
+        squares.append(square)
+        shares.append(line)
+    return squares, shares
+
+
+def are_steps(rows):
+    return school_shares(rows) is not None
+
+
+def steps_of(chance, many, wide, bound):
+    while True:
+        rows = rows_of(chance, many, wide, bound)
+        if are_steps(rows):
+            return rows
+
+
+def step_shapes(most=8):
+    return [(many, wide) for wide in range(1, most + 1) for many in range(1, wide + 1)]
+
+
+def scaled(number, row):
+    return tuple(number * n for n in row)
+
+
+def sum_of(weights, rows):
+    return tuple(school_dot(weights, column) for column in zip(*rows))
+
+
+def rows_that_are_no_steps(chance, many, wide, bound):
+    """Rows, many of them but where there are more than numbers in a row, with the odd one at every place."""
+    yield rows_of(chance, wide + 1, wide, bound)
+    yield ((0,) * wide,)
+    if many == 1 or many > wide:
+        return
+    others = steps_of(chance, many - 1, wide, bound)
+    odd = [(0,) * wide, others[0], others[-1], scaled(3, others[-1]), scaled(-1, others[0])]
+    if many > 2:
+        odd += [sum_of((1, 1), others[:2]), sum_of((2, -3), others[-2:])]
+    for k in range(many):
+        for row in odd:
+            yield others[:k] + (row,) + others[k:]
+        # No whole numbers of times of the others come to these, but fractions do.
+        yield tuple(scaled(6, row) for row in others[:k]) + others[:1] + tuple(scaled(6, row) for row in others[k:])
+        if many > 2:
+            far = tuple(scaled(6, row) for row in others)
+            yield far[:k] + (sum_of((3, 2), others[:2]),) + far[k:]
+
+
+def school_is_short(steps):
+    squares, shares = school_shares(steps)
+    half = Fraction(1, 2)
+    if any(not -half <= share <= half for line in shares for share in line):
+        return False
+    return all(squares[k] >= (Fraction(3, 4) - shares[k][k - 1] ** 2) * squares[k - 1] for k in range(1, len(steps)))
+
+
+def is_int(thing):
+    return type(thing) is int
+
+
+def is_tuple_of(thing, many):
+    return isinstance(thing, (list, tuple)) and many in (None, len(thing))
+
+
+def are_rows(thing, many, wide):
+    return is_tuple_of(thing, many) and all(is_tuple_of(row, wide) and all(is_int(n) for n in row) for row in thing)
+
+
+def school_turned(rows, made, turn, back):
+    """Whether turn, a turn with its back, makes these of rows; all three of any kind."""
+    many = len(rows)
+    if not are_rows(made, many, len(rows[0])) or not are_rows(turn, many, many) or not are_rows(back, many, many):
+        return False
+    return multiplied(turn, back) == multiplied(back, turn) == units(many) and multiplied(turn, rows) == tupled(made)
+
+
+def school_square(row, point):
+    """The square of a row from a point."""
+    return sum((n - fraction(part)) ** 2 for n, part in zip(row, point))
+
+
+class SchoolTree:
+    """Steps, a point and a square, and the trees of these."""
+
+    def __init__(self, made, point, square):
+        self.made = made
+        self.square = fraction(square)
+        self.squares, self.shares = school_shares(made)
+        self.times = []
+        left = [fraction(part) for part in point]
+        owns = self.owns()
+        for own, square in zip(owns, self.squares):
+            self.times.append(school_dot(left, own) / square)
+        for own, times in zip(owns, self.times):
+            left = [a - times * b for a, b in zip(left, own)]
+        self.spent = school_dot(left, left)
+
+    def owns(self):
+        owns = []
+        for step, line in zip(self.made, self.shares):
+            own = [Fraction(number) for number in step]
+            for share, ahead in zip(line, owns):
+                own = [a - share * b for a, b in zip(own, ahead)]
+            owns.append(own)
+        return owns
+
+    def centre(self, k, chosen):
+        """chosen are the numbers of times of the steps behind k, in order."""
+        return self.times[k] - sum(z * self.shares[k + 1 + i][k] for i, z in enumerate(chosen))
+
+    def cost(self, k, chosen, z):
+        return (z - self.centre(k, chosen)) ** 2 * self.squares[k]
+
+    def node_collects(self, node, k, chosen, spent, found):
+        """Whether a thing of any kind is a node; puts the rows that are collected into found."""
+        if k < 0:
+            if spent <= self.square:
+                found.append(sum_of(chosen, self.made))
+            return is_tuple_of(node, 0)
+        if not is_tuple_of(node, 2) or not is_int(node[0]) or not is_tuple_of(node[1], None):
+            return False
+        first, children = node
+        last = first + len(children)
+        if not first - 1 <= self.centre(k, chosen) <= last:
+            return False
+        if any(spent + self.cost(k, chosen, z) <= self.square for z in (first - 1, last)):
+            return False
+        return all(self.node_collects(child, k - 1, [z] + chosen, spent + self.cost(k, chosen, z), found)
+                   for z, child in enumerate(children, start=first))
+
+    def collects(self, tree):
+        """The rising points that a tree collects; None where it is none."""
+        found = []
+        if not self.node_collects(tree, len(self.made) - 1, [], self.spent, found):
+            return None
+        return tuple(sorted(found))
+
+    def node(self, k, chosen, spent, beyond):
+        if k < 0:
+            return ()
+        first = floor(self.centre(k, chosen))
+        while spent + self.cost(k, chosen, first) <= self.square:
+            first -= 1
+        last = ceil(self.centre(k, chosen))
+        while spent + self.cost(k, chosen, last) <= self.square:
+            last += 1
+        first += 1 - beyond
+        last += beyond
+        # A centre that is whole and out of reach is first - 1 and last at once.
+        last = max(first, last)
+        return (first, tuple(self.node(k - 1, [z] + chosen, spent + self.cost(k, chosen, z), beyond)
+                             for z in range(first, last)))
+
+    def tree(self, beyond=0):
+        """A tree of the test's own making, with so many more children than needed on each side."""
+        return self.node(len(self.made) - 1, [], self.spent, beyond)
+
+
+def school_shows_near(steps, point, square, points, paper):
+    if not are_steps(steps) or not are_rows(points, None, len(point)) or not is_tuple_of(paper, 4):
+        return False
+    made, turn, back, tree = paper
+    if not school_turned(steps, made, turn, back):
+        return False
+    return SchoolTree(tupled(made), point, square).collects(tree) == tupled(points)
+
+
+def inverse_of(rows):
+    """The back by fractions of rows that have one."""
+    many = len(rows)
+    left = [[Fraction(n) for n in row] + [Fraction(int(k == i)) for i in range(many)] for k, row in enumerate(rows)]
+    for place in range(many):
+        found = next(k for k in range(place, many) if left[k][place] != 0)
+        left[place], left[found] = left[found], left[place]
+        left[place] = [n / left[place][place] for n in left[place]]
+        for k in range(many):
+            if k != place:
+                left[k] = [a - left[k][place] * b for a, b in zip(left[k], left[place])]
+    return [row[many:] for row in left]
+
+
+def weights_to_try(steps, point, square):
+    """For each step the numbers of times beyond which, whatever the others, no sum is so near to the point."""
+    inverse = inverse_of([[school_dot(one, other) for other in steps] for one in steps])
+    dots = [school_dot(step, [fraction(part) for part in point]) for step in steps]
+    tries = []
+    for k, line in enumerate(inverse):
+        middle = school_dot(line, dots)
+        off = isqrt(floor(line[k] * square)) + 1
+        tries.append(range(ceil(middle - off), floor(middle + off) + 1))
+    return tries
+
+
+def school_near(steps, point, square):
+    """All sums of steps so near to the point, tried one by one."""
+    square = Fraction(square)
+    bottom = lcm(*[part[1] for part in point])
+    tops = [part[0] * bottom // part[1] for part in point]
+    rows = [(0,) * len(point)]
+    for step, tries in zip(steps, weights_to_try(steps, point, square)):
+        rows = [tuple(a + z * b for a, b in zip(row, step)) for row in rows for z in tries]
+    most = square * bottom * bottom
+    return tuple(sorted(row for row in rows if sum((n * bottom - top) ** 2 for n, top in zip(row, tops)) <= most))
+
+
+def how_many_to_try(steps, point, square):
+    many = 1
+    for tries in weights_to_try(steps, point, Fraction(square)):
+        many *= len(tries)
+    return many
