@@ -8,14 +8,14 @@ from latticeworks.short import short
 MOST_POINTS = 300
 
 
-# Rows as they are found; there is no bound where most is None.
+# Rows as they are found, at most so many; most is None where there's no bound.
 class Finds:
     def __init__(self, most):
         self.most = most
         self.found = []
 
     def keep(self, row):
-        if self.most is not None and len(self.found) == self.most:
+        if len(self.found) == self.most:
             raise TooMany("there are more rows than may be told")
         self.found.append(row)
 

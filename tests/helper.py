@@ -310,6 +310,12 @@ def steps_of(chance, many, wide, bound):
             return rows
 
 
+def plain_steps(chance, many, wide, size):
+    """Steps that lie nearly at right angles, so that few sums need to be tried."""
+    return tuple(tuple(chance.randint(-(size // 4), size // 4) + (size if place == k else 0) for place in range(wide))
+                 for k in range(many))
+
+
 def step_shapes(most=8):
     return [(many, wide) for wide in range(1, most + 1) for many in range(1, wide + 1)]
 
