@@ -24,6 +24,12 @@ def is_standing(rows):
     return True
 
 
+# The rows ahead of those of noughts that end the rows; None where these don't stand.
+def standing_head(rows):
+    head = rows[:len([row for row in rows if lead_of(row) is not None])]
+    return head if is_standing(head) else None
+
+
 # The whole number nearest to top over bottom: the rests that it leaves are the least ones.
 def nearest_quotient(top, bottom):
     return (2 * top + bottom) // (2 * bottom)

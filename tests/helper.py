@@ -2,7 +2,7 @@
 
 from copy import deepcopy
 from fractions import Fraction
-from math import ceil, floor, isqrt, lcm
+from math import ceil, floor, gcd, isqrt, lcm
 from random import Random
 
 from latticeworks.errors import LatticeError, NoSteps, TooMany
@@ -510,3 +510,123 @@ def how_many_to_try(steps, point, square):
     for tries in weights_to_try(steps, point, Fraction(square)):
         many *= len(tries)
     return many
+
+
+# From here on: standing rows, answers, spaces and plans by the words of the document.
+
+
+def school_standing(rows):
+    """Whether rows stand, by the words of the document alone."""
+    leads = []
+    for row in rows:
+        places = [place for place, number in enumerate(row) if number != 0]
+        if not places:
+            return False
+        leads.append(places[0])
+    for k, lead in enumerate(leads):
+        number = rows[k][lead]
+        if number <= 0 or any(other >= lead for other in leads[:k]):
+            return False
+        if any(rows[above][lead] not in range(number) for above in range(k)):
+            return False
+    return True
+
+
+def lead(row):
+    """The place of the first number that isn't nought; None where all are."""
+    return next((place for place, number in enumerate(row) if number != 0), None)
+
+
+def school_rest(form, row):
+    """The rest of a row by a standing form."""
+    for each in form:
+        place = lead(each)
+        times = row[place] // each[place]
+        row = tuple(a - times * b for a, b in zip(row, each))
+    return tuple(row)
+
+
+def is_in(form, row):
+    return not any(school_rest(form, row))
+
+
+def are_numbers(thing, many):
+    return is_tuple_of(thing, many) and all(is_int(n) for n in thing)
+
+
+def is_fraction(thing):
+    return are_numbers(thing, 2) and thing[1] > 0 and gcd(thing[0], thing[1]) == 1
+
+
+def columns_of(rows):
+    return tuple(zip(*rows))
+
+
+def dots(rows, row):
+    return tuple(school_dot(each, row) for each in rows)
+
+
+def is_text(thing, text):
+    return type(thing) is str and thing == text
+
+
+def school_is_turn(turn, back, many):
+    if not are_rows(turn, many, many) or not are_rows(back, many, many):
+        return False
+    return multiplied(turn, back) == multiplied(back, turn) == units(many)
+
+
+def stands_above_noughts(rows):
+    """How many rows stand ahead of rows of noughts; None where the rows aren't so."""
+    many = 0
+    while many < len(rows) and any(rows[many]):
+        many += 1
+    if not school_standing(rows[:many]) or any(any(row) for row in rows[many:]):
+        return None
+    return many
+
+
+def school_parts_show(columns, due, parts):
+    if not is_tuple_of(parts, len(due)) or not all(is_fraction(part) for part in parts):
+        return False
+    numbers = [fraction(part) for part in parts]
+    sums = [Fraction(school_dot(numbers, column)).denominator for column in columns]
+    return set(sums) == {1} and Fraction(school_dot(numbers, due)).denominator != 1
+
+
+def school_shows_answers(rows, due, told):
+    """Point 17, by its words."""
+    wide = len(rows[0])
+    nought = (0,) * len(rows)
+    if is_tuple_of(told, 2) and is_text(told[0], "none"):
+        return school_parts_show(columns_of(rows), due, told[1])
+    if not is_tuple_of(told, 5) or not is_text(told[0], "told"):
+        return False
+    answer, steps, turn, back = told[1:]
+    if not are_numbers(answer, wide) or not are_rows(steps, None, wide) or not school_is_turn(turn, back, wide):
+        return False
+    if dots(rows, answer) != tuple(due) or not school_standing(steps):
+        return False
+    if school_rest(steps, answer) != tuple(answer) or any(dots(rows, step) != nought for step in steps):
+        return False
+    many = stands_above_noughts(multiplied(turn, columns_of(rows)))
+    return many is not None and all(is_in(steps, row) for row in turn[many:])
+
+
+def moved_back(turn, back, k, times, other):
+    """The turn with some times row other added to row k, and its back put right."""
+    turn, back = [list(row) for row in turn], [list(row) for row in back]
+    turn[k] = [a + times * b for a, b in zip(turn[k], turn[other])]
+    for row in back:
+        row[other] -= times * row[k]
+    return tupled(turn), tupled(back)
+
+
+def exchanged_rows(rows, k, other):
+    rows = list(rows)
+    rows[k], rows[other] = rows[other], rows[k]
+    return tuple(rows)
+
+
+def negated_row(rows, k):
+    return rows[:k] + (scaled(-1, rows[k]),) + rows[k + 1:]

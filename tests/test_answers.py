@@ -9,16 +9,8 @@ from latticeworks.answers import answers, small_answers
 from latticeworks.dividing import dividing
 from latticeworks.errors import TooMany
 from latticeworks.standing import falls, is_standing, standing
-from tests.helper import (TWELVE_FIGURES, ask, multiplied, refused, row_of, rows_of, shapes, sorts_of_rows, source,
-                          sum_of, turn_of, units)
-
-
-def dots(rows, row):
-    return tuple(sum(a * b for a, b in zip(each, row)) for each in rows)
-
-
-def columns_of(rows):
-    return tuple(zip(*rows))
+from tests.helper import (TWELVE_FIGURES, ask, columns_of, dots, multiplied, refused, row_of, rows_of, shapes,
+                          sorts_of_rows, source, sum_of, turn_of, units)
 
 
 def is_whole(number):

@@ -3,24 +3,8 @@ from itertools import product as all_of
 
 from latticeworks.standing import falls, is_standing, shows_standing, standing
 from tests.helper import (TWELVE_FIGURES, ask, check_refuses_strange, check_told, listed, mixed, multiplied, row_of,
-                          rows_of, shapes, sorts_of_rows, source, tupled, turn_of, units, wrong_numbers)
-
-
-def school_standing(rows):
-    """Whether rows stand, by the words of the document alone."""
-    leads = []
-    for row in rows:
-        places = [place for place, number in enumerate(row) if number != 0]
-        if not places:
-            return False
-        leads.append(places[0])
-    for k, lead in enumerate(leads):
-        number = rows[k][lead]
-        if number <= 0 or any(other >= lead for other in leads[:k]):
-            return False
-        if any(rows[above][lead] not in range(number) for above in range(k)):
-            return False
-    return True
+                          rows_of, school_standing, shapes, sorts_of_rows, source, tupled, turn_of, units,
+                          wrong_numbers)
 
 
 def taken_away(one, other):
