@@ -2,6 +2,7 @@
 
 from copy import deepcopy
 from fractions import Fraction
+from itertools import product as all_of
 from math import ceil, floor, gcd, isqrt, lcm
 from random import Random
 
@@ -630,3 +631,153 @@ def exchanged_rows(rows, k, other):
 
 def negated_row(rows, k):
     return rows[:k] + (scaled(-1, rows[k]),) + rows[k + 1:]
+
+
+# From here on: plans. A task is (costs, rows, due, low, high); best is (cost, plan), or None where there's none.
+
+
+def within_bounds(low, high):
+    return all_of(*[range(least, most + 1) for least, most in zip(low, high)])
+
+
+def school_best(task):
+    """The least cost and the first plan with it, of all rows within the bounds."""
+    costs, rows, due, low, high = task
+    plans = [row for row in within_bounds(low, high) if all(school_dot(a, row) == n for a, n in zip(rows, due))]
+    return min([(school_dot(costs, plan), plan) for plan in plans], default=None)
+
+
+def school_best_under(task):
+    costs, rows, most, low, high = task
+    plans = [row for row in within_bounds(low, high) if all(school_dot(a, row) <= n for a, n in zip(rows, most))]
+    return min([(school_dot(costs, plan), plan) for plan in plans], default=None)
+
+
+def widened(task):
+    """The task that planned_under makes of one."""
+    costs, rows, most, low, high = task
+    many = len(rows)
+    highs = []
+    for row, number in zip(rows, most):
+        highs.append(max(0, number - sum(min(a * b, a * c) for a, b, c in zip(row, low, high))))
+    wider = tuple(tuple(row) + units(many)[k] for k, row in enumerate(rows))
+    return (tuple(costs) + (0,) * many, wider, tuple(most), tuple(low) + (0,) * many, tuple(high) + tuple(highs))
+
+
+class SchoolPlan:
+    """The trees of a task and what is told of it, by the words of point 22."""
+
+    def __init__(self, task, steps, best):
+        self.costs, self.rows, self.due, self.low, self.high = task
+        self.steps = tupled(steps)
+        self.wide = len(self.costs)
+        self.best = best
+        self.met = False
+
+    def many_fixed(self, taken):
+        return lead(self.steps[taken]) if taken < len(self.steps) else self.wide
+
+    def is_out(self, j, row):
+        return row[j] < self.low[j] or row[j] > self.high[j]
+
+    def sums(self, numbers, taken, row):
+        """The least and the greatest sum that the numbers' products can come to."""
+        fixed = self.many_fixed(taken)
+        least = most = sum(numbers[j] * row[j] for j in range(fixed))
+        for j in range(fixed, self.wide):
+            both = (numbers[j] * self.low[j], numbers[j] * self.high[j])
+            least += min(both)
+            most += max(both)
+        return least, most
+
+    def is_row(self, k, taken, row):
+        least, most = self.sums(self.rows[k], taken, row)
+        return least > self.due[k] or most < self.due[k]
+
+    def is_cost(self, taken, row):
+        if self.best is None:
+            return False
+        cost, plan = self.best
+        fixed = self.many_fixed(taken)
+        least = self.sums(self.costs, taken, row)[0]
+        return least > cost or (least == cost and tuple(row[:fixed]) > tuple(plan[:fixed]))
+
+    def is_here(self, taken, row):
+        if self.best is None or taken < len(self.steps) or any(self.is_out(j, row) for j in range(self.wide)):
+            return False
+        cost, plan = self.best
+        own = school_dot(self.costs, row)
+        return tuple(row) == tuple(plan) or own > cost or (own == cost and tuple(row) > tuple(plan))
+
+    def taken_times(self, taken, row, times):
+        return tuple(a + times * b for a, b in zip(row, self.steps[taken]))
+
+    def is_all(self, node, taken, row):
+        if taken == len(self.steps) or not is_int(node[1]) or not is_tuple_of(node[2], None):
+            return False
+        first, children = node[1:]
+        place = lead(self.steps[taken])
+        if self.taken_times(taken, row, first - 1)[place] >= self.low[place]:
+            return False
+        if self.taken_times(taken, row, first + len(children))[place] <= self.high[place]:
+            return False
+        return all(self.takes(child, taken + 1, self.taken_times(taken, row, times))
+                   for times, child in enumerate(children, start=first))
+
+    def takes(self, node, taken, row):
+        """Whether a thing of any kind is a node here; notes where the plan itself comes."""
+        if not is_tuple_of(node, None) or len(node) not in (1, 2, 3) or type(node[0]) is not str:
+            return False
+        sort = (node[0], len(node))
+        if sort == ("out", 2):
+            return is_int(node[1]) and node[1] in range(self.many_fixed(taken)) and self.is_out(node[1], row)
+        if sort == ("row", 2):
+            return is_int(node[1]) and node[1] in range(len(self.rows)) and self.is_row(node[1], taken, row)
+        if sort == ("cost", 1):
+            return self.is_cost(taken, row)
+        if sort == ("here", 1):
+            self.met = self.met or (self.best is not None and tuple(row) == tuple(self.best[1]))
+            return self.is_here(taken, row)
+        return sort == ("all", 3) and self.is_all(node, taken, row)
+
+    def leaves(self, taken, row):
+        """All nodes without children that may stand here."""
+        made = [("out", j) for j in range(self.many_fixed(taken)) if self.is_out(j, row)]
+        made += [("row", k) for k in range(len(self.rows)) if self.is_row(k, taken, row)]
+        made += [("cost",)] if self.is_cost(taken, row) else []
+        return made + ([("here",)] if self.is_here(taken, row) else [])
+
+    def tree(self, chance, taken, row, beyond, late=0):
+        """A tree of the test's own making, with further children, and ended late so many times of ten."""
+        made = self.leaves(taken, row)
+        if taken == len(self.steps) or (made and chance.randrange(10) >= late):
+            return chance.choice(made)
+        place = lead(self.steps[taken])
+        size = self.steps[taken][place]
+        first = ceil(Fraction(self.low[place] - row[place], size)) - chance.randint(0, beyond)
+        last = floor(Fraction(self.high[place] - row[place], size)) + 1 + chance.randint(0, beyond)
+        nodes = [self.tree(chance, taken + 1, self.taken_times(taken, row, times), beyond, late)
+                 for times in range(first, last)]
+        return ("all", first, tuple(nodes))
+
+
+def school_shows_planned(task, told):
+    """Point 23, by its words."""
+    costs, rows, due, low, high = task
+    if is_tuple_of(told, 4) and is_text(told[0], "told"):
+        cost, plan, paper = told[1:]
+        if not is_int(cost) or not are_numbers(plan, len(costs)) or dots(rows, plan) != tuple(due):
+            return False
+        if school_dot(costs, plan) != cost or not all(a <= n <= b for a, n, b in zip(low, plan, high)):
+            return False
+        best = (cost, tuple(plan))
+    elif is_tuple_of(told, 2) and is_text(told[0], "none"):
+        best, paper = None, told[1]
+    else:
+        return False
+    if not is_tuple_of(paper, 2) or not school_shows_answers(rows, due, paper[0]):
+        return False
+    if paper[0][0] == "none":
+        return best is None and is_tuple_of(paper[1], 0)
+    school = SchoolPlan(task, paper[0][2], best)
+    return school.takes(paper[1], 0, tuple(paper[0][1])) and (best is None or school.met)

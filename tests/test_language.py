@@ -111,6 +111,38 @@ def top_findings(tree):
     return found
 
 
+def is_kept(node):
+    return isinstance(node, (ast.List, ast.Dict))
+
+
+def read_only_uses(tree):
+    """Where a name may stand that is a list or dict of the top: indexed, walked, asked with `in` or `get`."""
+    good = set()
+    for node in ast.walk(tree):
+        if isinstance(node, ast.Subscript) and isinstance(node.ctx, ast.Load):
+            good.add(node.value)
+        elif isinstance(node, (ast.For, ast.comprehension)):
+            good.add(node.iter)
+        elif isinstance(node, ast.Compare):
+            good.update(node.comparators)
+        elif isinstance(node, ast.Attribute) and node.attr in ("get", "items", "keys", "values"):
+            good.add(node.value)
+        elif isinstance(node, ast.Call) and isinstance(node.func, ast.Name) and node.func.id in WALKED_IN | {"len"}:
+            good.update(node.args)
+    return good
+
+
+def kept_findings(tree):
+    """L15: a list or dict of the top holds none itself, and is only read."""
+    kept = [node for node in tree.body if isinstance(node, ast.Assign) and is_kept(node.value)]
+    names = {target.id for node in kept for target in node.targets if isinstance(target, ast.Name)}
+    found = [("L15", node.lineno) for node in kept
+             if any(is_kept(each) for each in ast.walk(node.value) if each is not node.value)]
+    good = read_only_uses(tree)
+    return found + rows_found(tree, "L15", lambda node: isinstance(node, ast.Name) and isinstance(node.ctx, ast.Load)
+                              and node.id in names and node not in good)
+
+
 def def_findings(tree):
     """L4, L10, L21: plain parameters, no decorators, no annotations, at most forty rows."""
     found = []
@@ -296,7 +328,7 @@ def findings(text, methods=frozenset()):
     tree = ast.parse(text)
     found = text_findings(text)
     for look in (import_findings, top_findings, def_findings, class_findings, statement_findings, expression_findings,
-                 call_findings, name_findings):
+                 call_findings, name_findings, kept_findings):
         found += look(tree)
     return found + method_findings(tree, methods)
 
@@ -401,7 +433,9 @@ class TheLookingUp(unittest.TestCase):
             "L14": ["x = '\u00e9'", "# \u2013"],
             "L15": ["x = 1\nx = 2", "def f(map):\n    return 1", "def f():\n    id = 1\n    return 1",
                     "from latticeworks.rows import dot\n\n\ndef f(dot):\n    return dot", "def len():\n    return 1",
-                    "def f():\n    class A:\n        pass"],
+                    "def f():\n    class A:\n        pass", "x = [[1]]", "x = {1: {}}", "x = {1: ([],)}",
+                    "x = [1]\n\n\ndef f():\n    return x", "x = [1]\n\n\ndef f():\n    x.append(2)",
+                    "x = {}\n\n\ndef f(k):\n    x[k] = 1", "x = {}\n\n\ndef f():\n    g(x)"],
             "L17": ["# the type of it", "x = 'enum'", "def f(a):\n    return vars(a)", "def f(a):\n    return a.open",
                     "my_dataclasses = 1", "def f(a):\n    return getattr(a, 'b')"],
             "L18": ["class A:\n    def f(self):\n        pass\n\n    def f(self):\n        pass"],
@@ -420,7 +454,8 @@ class TheLookingUp(unittest.TestCase):
                 self.assertIn(rule, [found[0] for found in findings(text)], text)
 
     def test_rows_that_keep_to_it(self):
-        right = ["x = (1, 'a', None, (2, True))", "def f(a, b=1):\n    return a is None or b is not True",
+        right = ["x = (1, 'a', None, (2, True))", "x = {'a': (1, 2)}\n\n\ndef f(k):\n    return x[k] if k in x else len(x)",
+                 "def g(a):\n    return a\n\n\nx = {'a': g}\n\n\ndef f(k):\n    return x[k](1)", "def f(a, b=1):\n    return a is None or b is not True",
                  "def f(a):\n    return sorted([k for k in range(a) if k > 1], key=lambda k: -k)",
                  "def f(a):\n    for k, b in enumerate(zip(a, a)):\n        g(k, b)",
                  "class A(ValueError):\n    def __init__(self, line):\n        ValueError.__init__(self, f'{line}')"]

@@ -400,6 +400,13 @@ class WithinAndTimes(Spaces):
             self.assertIs(ask(self, is_within, one, other), False)
             self.assertIs(ask(self, times_in, one, other), None)
 
+    def test_unlike_widths(self):
+        # Rows of another width are in no space, be they noughts.
+        for one, other in (((1, ()), (2, ())), ((2, ()), (1, ((1,),))), ((1, ((1,),)), (2, units(2))),
+                           ((2, units(2)), (1, units(1)))):
+            self.assertIs(is_within(one, other), False)
+            self.assertIs(times_in(one, other), None)
+
     def test_the_same(self):
         chance = source(24)
         for trial in range(60):
